@@ -1,0 +1,1 @@
+"""Quantities in texts, read strictly and worked out exactly."""

@@ -1,0 +1,44 @@
+"""Writes quantities and numbers as texts, and texts as answers."""
+
+from exactunits.units import BASE_WORDS
+
+
+def fraction_text(quantity):
+    """A quantity's fraction, as its one text has it."""
+    sign = "-" if quantity.top < 0 else ""
+    top = abs(quantity.top)
+    bottom = quantity.bottom
+    if bottom == 1:
+        return f"{sign}{top}"
+    return f"{sign}({top}/{bottom})"
+
+
+def power_text(word, power):
+    """A base unit's word with its exponent, which isn't 0."""
+    if power == 1:
+        return word
+    return f"{word}^{power}"
+
+
+def one_text(quantity):
+    """The one text of a quantity."""
+    parts = [fraction_text(quantity)]
+    for word, power in zip(BASE_WORDS, quantity.powers):
+        if power != 0:
+            parts.append(power_text(word, power))
+    return " ".join(parts)
+
+
+def places_text(number, places):
+    """A whole number of 10^-places, told with so many places."""
+    sign = "-" if number < 0 else ""
+    digits = str(abs(number)).zfill(places + 1)
+    if places == 0:
+        return sign + digits
+    point = len(digits) - places
+    return sign + digits[:point] + "." + digits[point:]
+
+
+def text_answer(text):
+    """The numbers that answer a text: how many bytes, then they."""
+    return [len(text)] + [ord(letter) for letter in text]
