@@ -1,20 +1,20 @@
 """The desk that calls come to: it keeps the names, and answers."""
 
+from exactunits.choosing import handy_word, whole_word
 from exactunits.layout import ADD_UP, CANON, COMPARE, DEFINE, DIMS, FORGET, SHOW, SORT, call_at, need_ranges
-from exactunits.quantities import MOST_POWER, compared, multiplied_often, need_alike, plus
+from exactunits.layout import HANDY, NAMES, NEAR, SPLIT, TIDY, WHAT, WHOLE
+from exactunits.nearest import nearest_fraction
+from exactunits.quantities import MOST_POWER, compared, how_often, need_alike, plus
 from exactunits.reading import read
-from exactunits.refusals import AlreadyDefined, DividedByZero, NotAName, NotDefined, Refusal, TooManyNames, UnitWord
-from exactunits.rounding import rounded
-from exactunits.tokens import is_name
+from exactunits.refusals import AlreadyDefined, NotAName, NotDefined, Refusal, TooManyNames, UnitWord
+from exactunits.rewriting import tidied
+from exactunits.splitting import less_units, need_split_unit, need_splittable, often_taken
+from exactunits.tokens import is_name, text_bytes
 from exactunits.units import unit_table
-from exactunits.working import worked_out
-from exactunits.writing import one_text, places_text, text_answer
+from exactunits.working import name_worth, unknown_names, worked_out
+from exactunits.writing import bytes_answer, one_text, rounded_text, text_answer, words_answer
 
 MOST_NAMES = 32
-
-
-class NoSuchCall(Exception):
-    """A call with a place that the desk doesn't know."""
 
 
 class Desk:
@@ -51,7 +51,21 @@ class Desk:
             return self.answer_define(tuple(call.texts[0]), call.texts[1])
         if call.place == FORGET:
             return self.answer_forget(tuple(call.texts[0]))
-        raise NoSuchCall()
+        if call.place == NAMES:
+            return self.answer_names()
+        if call.place == WHAT:
+            return self.answer_what(tuple(call.texts[0]))
+        if call.place == SPLIT:
+            return self.answer_split(call.texts[0], call.texts[1:])
+        if call.place == NEAR:
+            return self.answer_near(call.texts[0], call.texts[1], call.numbers[0])
+        if call.place == WHOLE:
+            return self.answer_whole(call.texts[0])
+        if call.place == HANDY:
+            return self.answer_handy(call.texts[0], call.numbers[0], call.numbers[1])
+        if call.place == TIDY:
+            return self.answer_tidy(call.texts[0])
+        return self.answer_unknown(call.texts[0])
 
     def worth(self, text):
         """The quantity of a text; it's read whole before anything is worked out."""
@@ -69,15 +83,7 @@ class Desk:
         """A quantity told in a unit."""
         quantity = self.worth(text)
         unit = self.worth(unit_text)
-        need_alike(quantity, unit)
-        if unit.top == 0:
-            raise DividedByZero()
-        top = quantity.top * unit.bottom * multiplied_often(10, places)
-        bottom = quantity.bottom * unit.top
-        if bottom < 0:
-            top = -top
-            bottom = -bottom
-        return text_answer(places_text(rounded(top, bottom, way), places))
+        return text_answer(rounded_text(how_often(quantity, unit), places, way))
 
     def answer_compare(self, first_text, second_text):
         """Which of two quantities is more."""
@@ -132,6 +138,58 @@ class Desk:
             raise NotDefined()
         self.names.pop(word)
         return [len(self.names)]
+
+    def answer_names(self):
+        """The names that are defined."""
+        return words_answer(list(self.names))
+
+    def answer_what(self, word):
+        """The one text of what a word stands for; it's taken as it is, not read."""
+        return text_answer(one_text(name_worth(word, self.units, self.names)))
+
+    def answer_split(self, text, unit_texts):
+        """How often each unit is taken, and what's left; all units are looked at before any is taken."""
+        left = self.worth(text)
+        need_splittable(left)
+        units = []
+        for unit_text in unit_texts:
+            unit = self.worth(unit_text)
+            need_split_unit(left, unit)
+            units.append(unit)
+        answer = []
+        for unit in units:
+            often = often_taken(left, unit)
+            left = less_units(left, often, unit)
+            answer.extend(text_answer(str(often)))
+        return answer + text_answer(one_text(left))
+
+    def answer_near(self, text, unit_text, most):
+        """The nearest fraction to how often a unit goes into a quantity."""
+        quantity = self.worth(text)
+        unit = self.worth(unit_text)
+        fraction = nearest_fraction(how_often(quantity, unit), most)
+        return text_answer(str(fraction.top)) + [fraction.bottom]
+
+    def answer_whole(self, text):
+        """The greatest unit that a quantity is a whole number of, and this number."""
+        quantity = self.worth(text)
+        word = whole_word(quantity, self.units)
+        return bytes_answer(word) + text_answer(str(how_often(quantity, self.units[word]).top))
+
+    def answer_handy(self, text, places, way):
+        """A quantity told in its handy unit, and that unit's word."""
+        quantity = self.worth(text)
+        word = handy_word(quantity, self.units)
+        number = rounded_text(how_often(quantity, self.units[word]), places, way)
+        return bytes_answer(text_bytes(f"{number} ") + word)
+
+    def answer_tidy(self, text):
+        """A text written again; it's read, not worked out."""
+        return bytes_answer(tidied(read(text)))
+
+    def answer_unknown(self, text):
+        """The names in a text that stand for nothing; it's read, not worked out."""
+        return words_answer(unknown_names(read(text), self.units, self.names))
 
 
 def answers(calls):

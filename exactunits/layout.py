@@ -10,12 +10,22 @@ ADD_UP = 4
 SORT = 5
 DEFINE = 6
 FORGET = 7
+NAMES = 8
+WHAT = 9
+SPLIT = 10
+NEAR = 11
+WHOLE = 12
+HANDY = 13
+TIDY = 14
+UNKNOWN = 15
 
 MOST_BYTES = 256
 MOST_BYTE = 255
 MOST_TEXTS = 16
 MOST_PLACES = 12
 MOST_WAY = 5
+MOST_SPLIT_UNITS = 8
+MOST_DENOMINATOR = 1000
 
 
 class Call:
@@ -58,8 +68,13 @@ def need_ranges(call):
     """Refuses a call with any argument out of its range."""
     for text in call.texts:
         need_text(text)
-    if call.place == SHOW:
+    if call.place == SHOW or call.place == HANDY:
         need_range(call.numbers[0], 0, MOST_PLACES)
         need_range(call.numbers[1], 0, MOST_WAY)
     if call.place == ADD_UP or call.place == SORT:
         need_range(len(call.texts), 1, MOST_TEXTS)
+    if call.place == SPLIT:
+        # The first text is what's split.
+        need_range(len(call.texts) - 1, 1, MOST_SPLIT_UNITS)
+    if call.place == NEAR:
+        need_range(call.numbers[0], 1, MOST_DENOMINATOR)

@@ -59,6 +59,16 @@ def need_alike(left, right):
         raise NotAlike()
 
 
+def whole_number(number):
+    """A whole number as a quantity without units."""
+    return Quantity(number, 1, NO_POWERS)
+
+
+def without_sign(quantity):
+    """The quantity, turned to be 0 or above."""
+    return Quantity(abs(quantity.top), quantity.bottom, quantity.powers)
+
+
 def negative(quantity):
     """The quantity with its sign turned."""
     return Quantity(-quantity.top, quantity.bottom, quantity.powers)
@@ -88,6 +98,14 @@ def divided(left, right):
         raise DividedByZero()
     powers = tuple([first - second for first, second in zip(left.powers, right.powers)])
     return fitting(left.top * right.bottom, left.bottom * right.top, powers)
+
+
+def how_often(quantity, unit):
+    """How often a unit goes into a quantity that's alike: exactly, and nothing needs to fit."""
+    need_alike(quantity, unit)
+    if unit.top == 0:
+        raise DividedByZero()
+    return lowest(quantity.top * unit.bottom, quantity.bottom * unit.top, NO_POWERS)
 
 
 def multiplied_often(base, often):

@@ -119,6 +119,11 @@ class Reader:
             self.steps.append(Step(self.waiting.pop(), None))
 
 
+def binding(kind):
+    """How firmly a sign binds."""
+    return STRENGTHS[kind]
+
+
 def is_exponent(body):
     """Whether a number may stand behind ^."""
     return POINT not in body and digits_value(body) <= MOST_EXPONENT

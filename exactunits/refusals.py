@@ -85,6 +85,34 @@ class NotDefined(Refusal):
         Refusal.__init__(self, -11)
 
 
+class BelowZero(Refusal):
+    """What is to be split is below 0."""
+
+    def __init__(self):
+        Refusal.__init__(self, -12)
+
+
+class NotAboveZero(Refusal):
+    """What is to be split into isn't above 0."""
+
+    def __init__(self):
+        Refusal.__init__(self, -13)
+
+
+class NoUnit(Refusal):
+    """No unit of the table is such as is asked for."""
+
+    def __init__(self):
+        Refusal.__init__(self, -14)
+
+
+class TooLong(Refusal):
+    """A text that's written again has too many bytes."""
+
+    def __init__(self):
+        Refusal.__init__(self, -15)
+
+
 class CannotGoOn(Refusal):
     """A text's token at this place is the first that can't go on."""
 

@@ -114,6 +114,11 @@ def tokens_of(text):
     return tokens
 
 
+def text_bytes(text):
+    """The bytes of a text that the program itself writes."""
+    return tuple([ord(letter) for letter in text])
+
+
 def digits_value(digits):
     """The whole number that digits tell."""
     value = 0

@@ -1,7 +1,7 @@
 """The units: their words and the quantities they stand for, in the table's order."""
 
 from exactunits.quantities import lowest
-from exactunits.tokens import PERCENT
+from exactunits.tokens import PERCENT, text_bytes
 
 # The sign itself may stand in no text of this program. With its blank this can't be a name that is read.
 PERCENT_WORD = "percent sign"
@@ -37,7 +37,7 @@ def word_bytes(word):
     """The bytes of a word of the table, as names in texts are kept."""
     if word == PERCENT_WORD:
         return (PERCENT,)
-    return tuple([ord(letter) for letter in word])
+    return text_bytes(word)
 
 
 def unit_table():

@@ -26,6 +26,16 @@ def name_worth(word, units, names):
     raise UnknownName()
 
 
+def unknown_names(steps, units, names):
+    """The names in steps that stand for nothing, each once, in the order of their first places."""
+    unknown = {}
+    for step in steps:
+        # Steps keep the order that names have in the text.
+        if step.kind == NAME and step.detail not in units and step.detail not in names:
+            unknown[step.detail] = True
+    return list(unknown)
+
+
 def joined(kind, left, right):
     """What a sign between two quantities gives; side by side is a product as * is."""
     if kind == "+":

@@ -1,5 +1,8 @@
 """Writes quantities and numbers as texts, and texts as answers."""
 
+from exactunits.quantities import multiplied_often
+from exactunits.rounding import rounded
+from exactunits.tokens import text_bytes
 from exactunits.units import BASE_WORDS
 
 
@@ -39,6 +42,24 @@ def places_text(number, places):
     return sign + digits[:point] + "." + digits[point:]
 
 
+def rounded_text(often, places, way):
+    """A quantity without units, rounded by a way and told with so many places."""
+    return places_text(rounded(often.top * multiplied_often(10, places), often.bottom, way), places)
+
+
+def bytes_answer(body):
+    """The numbers that answer a text whose bytes are given: how many, then they."""
+    return [len(body)] + list(body)
+
+
 def text_answer(text):
-    """The numbers that answer a text: how many bytes, then they."""
-    return [len(text)] + [ord(letter) for letter in text]
+    """The numbers that answer a text that the program itself writes."""
+    return bytes_answer(text_bytes(text))
+
+
+def words_answer(words):
+    """The numbers that answer several words: how many, then each as a text."""
+    answer = [len(words)]
+    for word in words:
+        answer.extend(bytes_answer(word))
+    return answer

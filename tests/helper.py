@@ -48,6 +48,38 @@ def forget(word):
     return call(7, [], [word])
 
 
+def names():
+    return call(8, [], [])
+
+
+def what(word):
+    return call(9, [], [word])
+
+
+def split(text, *units):
+    return call(10, [], (text,) + units)
+
+
+def near(text, unit, most):
+    return call(11, [most], [text, unit])
+
+
+def whole(text):
+    return call(12, [], [text])
+
+
+def handy(text, places, way):
+    return call(13, [places, way], [text])
+
+
+def tidy(text):
+    return call(14, [], [text])
+
+
+def unknown(text):
+    return call(15, [], [text])
+
+
 def ask_all(*calls):
     """The answers to several calls in one list, each as a list of numbers."""
     given = answers([number for laid in calls for number in laid])
@@ -68,12 +100,48 @@ def ask(*calls):
 
 def told(*calls):
     """The last call's answer: a text as a str, a refusal as its number."""
-    answer = ask(*calls)
+    taken = told_parts(*calls)
+    if isinstance(taken, int):
+        return taken
+    assert len(taken) == 1, taken
+    return taken[0]
+
+
+def parts(answer):
+    """The texts that an answer is made of, one behind another, as strs."""
+    taken = []
+    place = 0
+    while place < len(answer):
+        end = place + 1 + answer[place]
+        taken.append(bytes(answer[place + 1:end]).decode("ascii"))
+        place = end
+    assert place == len(answer), answer
+    return taken
+
+
+def refusal_or(answer, taken):
+    """A refusal as its number, any other answer as it's taken apart."""
     if answer[0] < 0:
         assert len(answer) == 1, answer
         return answer[0]
-    assert answer[0] == len(answer) - 1, answer
-    return bytes(answer[1:]).decode("ascii")
+    return taken(answer)
+
+
+def counted_parts(answer):
+    """The texts of an answer that tells how many they are, then each."""
+    taken = parts(answer[1:])
+    assert answer[0] == len(taken), answer
+    return taken
+
+
+def told_parts(*calls):
+    """The last call's answer, texts one behind another; a refusal as its number."""
+    return refusal_or(ask(*calls), parts)
+
+
+def told_words(*calls):
+    """The last call's answer, how many texts and then these; a refusal as its number."""
+    return refusal_or(ask(*calls), counted_parts)
 
 
 def worth(text):

@@ -3,18 +3,23 @@
 import unittest
 
 from exactunits.desk import answers
-from tests.helper import add_up, ask, ask_all, call, canon, compare, define, dims, forget, show, sort
+from tests.helper import (
+    add_up, ask, ask_all, call, canon, compare, define, dims, forget, handy, names, near, show, sort, split, tidy,
+    unknown, what, whole)
 
 EVERY_CALL = [
     canon("7"), dims("m"), show("1", "3", 2, 0), compare("1", "2"), add_up("1", "2"), sort("2", "1"),
-    define("a", "1"), forget("a")]
+    define("a", "1"), forget("a"), define("b", "2"), names(), what("b"), split("7", "b"), near("b", "3", 9),
+    whole("b s"), handy("b s", 1, 0), tidy("(b)"), unknown("b + a")]
 
 
 def with_text(text):
     """Each call with a text in each of its places."""
     calls = [canon(text), dims(text), show(text, "1", 0, 0), show("1", text, 0, 0), compare(text, "1")]
     calls += [compare("1", text), add_up(text), add_up("1", text), sort(text), sort("1", text)]
-    return calls + [define("a", text), define(text, "1"), forget(text)]
+    calls += [define("a", text), define(text, "1"), forget(text), what(text), split(text, "1"), split("1", text)]
+    calls += [split("1", "1", text), near(text, "1", 1), near("1", text, 1), whole(text), handy(text, 0, 0)]
+    return calls + [tidy(text), unknown(text)]
 
 
 class Layout(unittest.TestCase):
@@ -23,6 +28,10 @@ class Layout(unittest.TestCase):
         self.assertEqual(show("1", "23", 4, 5), [2, 2, 4, 5, 2, 1, 49, 2, 50, 51])
         self.assertEqual(sort(), [5, 0, 0])
         self.assertEqual(add_up("1", ""), [4, 0, 2, 1, 49, 0])
+        self.assertEqual(names(), [8, 0, 0])
+        self.assertEqual(split("1", "23", "4"), [10, 0, 3, 1, 49, 2, 50, 51, 1, 52])
+        self.assertEqual(near("1", "23", 4), [11, 1, 4, 2, 1, 49, 2, 50, 51])
+        self.assertEqual(handy("7", 4, 5), [13, 2, 4, 5, 1, 1, 55])
 
     def test_answers_have_their_length_ahead(self):
         self.assertEqual(answers([0, 0, 1, 3, 55, 32, 109]), [4, 3, 55, 32, 109])
@@ -34,11 +43,21 @@ class Layout(unittest.TestCase):
         self.assertEqual(answers([6, 0, 2, 1, 97, 1, 49]), [1, 1])
         self.assertEqual(answers([7, 0, 1, 1, 97]), [1, -11])
         self.assertEqual(answers([0, 0, 1, 0]), [1, -1000])
+        self.assertEqual(answers([8, 0, 0]), [1, 0])
+        self.assertEqual(answers([9, 0, 1, 1, 109]), [4, 3, 49, 32, 109])
+        self.assertEqual(answers([10, 0, 2, 1, 55, 1, 51]), [4, 1, 50, 1, 49])
+        self.assertEqual(answers([11, 1, 5, 2, 1, 49, 1, 51]), [3, 1, 49, 3])
+        self.assertEqual(answers([12, 0, 1, 1, 75]), [4, 1, 75, 1, 49])
+        self.assertEqual(answers([13, 2, 1, 0, 1, 1, 75]), [6, 5, 49, 46, 48, 32, 75])
+        self.assertEqual(answers([14, 0, 1, 3, 40, 97, 41]), [2, 1, 97])
+        self.assertEqual(answers([15, 0, 1, 1, 97]), [3, 1, 1, 97])
 
     def test_several_calls_in_one_list(self):
         given = ask_all(*EVERY_CALL)
         self.assertEqual(given, [
-            [1, 55], [21, 20, 20, 20, 20, 20], [4, 48, 46, 51, 51], [0], [1, 51], [1, 0], [1], [0]])
+            [1, 55], [21, 20, 20, 20, 20, 20], [4, 48, 46, 51, 51], [0], [1, 51], [1, 0], [1], [0], [1],
+            [1, 1, 98], [1, 50], [1, 51, 1, 49], [1, 50, 3], [1, 115, 1, 50], [5, 50, 46, 48, 32, 115], [1, 98],
+            [1, 1, 97]])
 
     def test_400_calls(self):
         self.assertEqual(ask_all(*[compare("2", "1")] * 400), [[2]] * 400)
@@ -66,6 +85,8 @@ class Ranges(unittest.TestCase):
         for place in (3, 4, 5, 6):
             self.assertEqual(ask(call(place, [], [")", [256]])), [-1])
         self.assertEqual(ask(call(2, [0, 0], [")", [256]])), [-1])
+        self.assertEqual(ask(split("-1", ")", [256])), [-1])
+        self.assertEqual(ask(near(")", [256], 1)), [-1])
 
 
 class WhatIsKept(unittest.TestCase):
@@ -90,6 +111,13 @@ class WhatIsKept(unittest.TestCase):
         self.assertEqual(answers(calls), first)
         self.assertEqual(ask(canon("a")), [-3])
         self.assertEqual(ask(forget("a")), [-11])
+        self.assertEqual(ask(names()), [0])
+        self.assertEqual(ask(what("a")), [-3])
+        self.assertEqual(ask(unknown("a")), [1, 1, 97])
+
+    def test_every_call_a_second_time(self):
+        calls = [number for laid in EVERY_CALL for number in laid]
+        self.assertEqual(answers(calls), answers(list(calls)))
 
     def test_answers_are_given_back_as_a_new_list(self):
         calls = canon("7")
